@@ -16,20 +16,18 @@ def ordered(firsts, start, follow, most, word):
     `word` tells.
     """
     found = {thing: start for thing in sorted(firsts)}
-    if len(found) > most:
-        raise TooMany(word)
     level = list(found)
     while level:
         later = {}
         for thing in level:
+            if len(found) + len(later) > most:
+                raise TooMany(word)
             for letters, further in follow(thing):
                 if further in found:
                     continue
                 rows = lengthened(found[thing], letters)
                 if further not in later or rows < later[further]:
                     later[further] = rows
-                if len(found) + len(later) > most:
-                    raise TooMany(word)
         level = [thing for _, thing in sorted([(later[thing], thing) for thing in later])]
         for thing in level:
             found[thing] = later[thing]

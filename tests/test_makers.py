@@ -71,6 +71,8 @@ class TestEither(unittest.TestCase):
         light = ring("w...........", "a")
         self.assertEqual(len(either(*[light] * 8)), 96)
         self.assertEqual(error_of(either), ("BadWorlds", -1))
+        for odd in (None, 0, "w", (light,)):
+            self.assertEqual(error_of(either, light, odd), ("BadWorlds", -1))
         self.assertEqual(error_of(either, *[light] * 9), ("BadWorlds", -1))
         self.assertEqual(error_of(either, *[light] * 7, ring("w" * 13, "")), ("TooMany", "state"))
         self.assertEqual(error_of(either, full(96), light), ("TooMany", "state"))
@@ -135,6 +137,7 @@ class TestByTurns(unittest.TestCase):
         self.assertEqual(error_of(by_turns), ("BadWorlds", -1))
         self.assertEqual(error_of(by_turns, beats=0), ("BadWorlds", -1))
         self.assertEqual(error_of(by_turns, light, light, light, light, beats=0), ("BadWorlds", -1))
+        self.assertEqual(error_of(by_turns, light, None, beats=0), ("BadWorlds", -1))
         for odd in (0, 10, -1, True, None, "1", 1.0, 10 ** 39):
             self.assertEqual(error_of(by_turns, full(96), full(96), beats=odd), ("BadBeats", odd))
         self.assertEqual(error_of(by_turns, full(96), full(96), full(96), beats=9), ("TooMany", "state"))

@@ -10,7 +10,7 @@ from tests.helpers import ODD, SIGNS, error_of, rows_to, some_eye, some_world, s
 NO_KNOWLEDGES = tuple(odd for odd in ODD if odd not in ((), [])) + (
     ((0, 0), (0, 0)), ((1, 0), (0, 0)), ((0,),), ((0, 0, 0),), ((9, 0),), ((0, 1),), ((-1, 0),), ((True, 0),),
     ((0, False),), (0, 0), ((0, 0), None), ("00",), {(0, 0): 1}, [[0, 0], [0, 0]], ((0.0, 0),), (((0, 0),),),
-    ((0, 0), (10 ** 39, 0)))
+    ((0, 0), (10 ** 39, 0)), ((0, 0), (2, 0), (1, 0)), ((0, 0), (1, 0), (1, 0)))
 
 
 class TestMind(unittest.TestCase):

@@ -72,13 +72,15 @@ class TestWorld(unittest.TestCase):
     def test_goes(self):
         for odd in (None, 0, "ab", {}, (), ((0,),), ((0,), (1,), (0,)), [[0]]):
             self.assertEqual(error_of(World, "w.", odd, (0,), ("", "")), ("BadGoes", -1))
-        for odd in (None, 0, "0", (), [], (2,), (-1,), (0, 0), (1, 0), (True,), (False, 1), (0, 1.0), ("0",), {0: 0},
+        for odd in (None, 0, "0", (), [], (2,), (-1,), (-1, 0), (0, 2), (0, 0), (1, 0), (True,), (False, 1), (0, 1.0), ("0",), {0: 0},
                     (0, 10 ** 39), ((0,),)):
             self.assertEqual(error_of(World, "w.", ((0,), odd), (), ()), ("BadGoes", 1))
             self.assertEqual(error_of(World, "w.", (odd, odd), (), ()), ("BadGoes", 0))
+        for odd in ((0, 2, 1), (1, 0, 2), (0, 1, 1), (0, 1, 2, 3), (0, 1, 2, 2)):
+            self.assertEqual(error_of(World, "w.g", ((0,), (1,), odd), (), ()), ("BadGoes", 2))
 
     def test_begins(self):
-        for odd in (None, 0, "0", (), [], [2], (-1,), (0, 0), [1, 0], (True,), (False, 1), {0: 0}):
+        for odd in (None, 0, "0", (), [], [2], (-1,), (-1, 1), (0, 2), (0, 0), [1, 0], (True,), (False, 1), {0: 0}):
             self.assertEqual(error_of(World, "w.", ((0,), (1,)), odd, None), ("BadBegins", odd))
         passed = [1, [0]]
         try:

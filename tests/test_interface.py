@@ -1,0 +1,80 @@
+"""The names, parameters and places of the interface that have landed."""
+
+import importlib
+import inspect
+import unittest
+
+FUNCTIONS = {
+    "makers": ("ring(row, mark, at=None)", "either(*worlds)", "over(first, second)", "by_turns(*worlds, beats=1)",
+               "marked(world, mark)", "behind_glass(world, glass)"),
+    "rhythmtext": ("read_round(text)",),
+    "foldround": ("fold_round(row)",),
+    "rounds": ("least_round(row)", "rhythm(row)", "turned(row, beats)", "alike(first, second)",
+               "moments(first, second)", "parting(first, second)", "laid_over(first, second)"),
+    "worldtext": ("write_world(world)", "write_eye(eye)", "read_world(lines)", "read_eye(lines)"),
+    "weathers": ("is_weather(thing)", "eye_of(weathers)", "write_weathers(weathers)", "read_weathers(lines)"),
+    "within": ("judge_within(first, second, table)", "let_the_same(first, second)"),
+    "leaneye": ("classes(eye)", "lean_eye(eye)"),
+}
+CLASSES = {
+    "worlds.World": ("__init__(self, shows, goes, begins, marks)", "__len__(self)", "__getitem__(self, state)",
+                     "__iter__(self)", "__eq__(self, other)", "ends(self, row)"),
+    "eyes.Eye": ("__init__(self, entries)", "__len__(self)", "__iter__(self)", "__eq__(self, other)",
+                 "options(self, state, sign)", "__call__(self, shown, seen)", "__add__(self, other)"),
+    "sights.Sight": ("__init__(self, world, eye)", "behind(self, standing, sign)", "signs_of(self, standing)",
+                     "mark_of(self, standing)", "can_see(self, look)", "__contains__(self, standing)",
+                     "__len__(self)", "__iter__(self)"),
+    "minds.Mind": ("__init__(self, world, eye)", "__eq__(self, other)", "behind(self, knowledge, sign)",
+                   "marks_of(self, knowledge)", "sure_of(self, knowledge)", "__call__(self, look)"),
+    "nights.Nights": ("__init__(self, mind, world, eye)", "__len__(self)", "__iter__(self)",
+                      "__contains__(self, pair)", "__getitem__(self, pair)", "behind(self, pair)"),
+    "within.Within": ("__init__(self, first, second)", "__bool__(self)", "__len__(self)", "__iter__(self)"),
+    "backs.Backs": ("__init__(self, eye, look)", "__contains__(self, row)", "each_row(self)"),
+}
+PROPERTIES = {
+    "worlds.World": ("reached", "is_steady"),
+    "eyes.Eye": ("states",),
+    "sights.Sight": ("opening",),
+    "minds.Mind": ("opening",),
+    "nights.Nights": ("misled_pairs",),
+}
+
+
+def module_of(name):
+    return importlib.import_module("falseglim." + name)
+
+
+class TestInterface(unittest.TestCase):
+    def test_functions(self):
+        for name, told in FUNCTIONS.items():
+            for text in told:
+                word = text.split("(")[0]
+                function = getattr(module_of(name), word)
+                self.assertEqual(word + str(inspect.signature(function)), text)
+                self.assertEqual(function.__module__, "falseglim." + name)
+
+    def test_methods(self):
+        for place, told in CLASSES.items():
+            name, word = place.split(".")
+            own = vars(getattr(module_of(name), word))
+            self.assertEqual(own["__module__"], "falseglim." + name)
+            for text in told:
+                method = text.split("(")[0]
+                self.assertEqual(method + str(inspect.signature(own[method])), text, place)
+
+    def test_properties(self):
+        for place, told in PROPERTIES.items():
+            name, word = place.split(".")
+            for text in told:
+                self.assertIsInstance(vars(getattr(module_of(name), word))[text], property)
+
+    def test_class_methods(self):
+        own = vars(module_of("eyes").Eye)
+        self.assertIsInstance(own["fair"], classmethod)
+        self.assertIsInstance(own["through"], classmethod)
+        self.assertEqual(str(inspect.signature(module_of("eyes").Eye.through)), "(glass)")
+        self.assertTrue(inspect.isgeneratorfunction(module_of("backs").Backs.each_row))
+
+
+if __name__ == "__main__":
+    unittest.main()
