@@ -42,15 +42,20 @@ def living_layers(layers):
     return living[::-1]
 
 
+def counts_behind(layer, counts):
+    """How many rows lead to each set of states behind a layer, if `counts` tells it ahead of the layer."""
+    later = {}
+    for states, number in counts.items():
+        for behind in layer.get(states, {}).values():
+            later[behind] = later.get(behind, 0) + number
+    return later
+
+
 def count_rows(layers):
     """How many rows lead through the layers."""
     counts = {(0,): 1}
     for layer in layers:
-        later = {}
-        for states in counts:
-            for behind in layer.get(states, {}).values():
-                later[behind] = later.get(behind, 0) + counts[states]
-        counts = later
+        counts = counts_behind(layer, counts)
     return sum(list(counts.values()))
 
 

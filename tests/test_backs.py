@@ -1,6 +1,7 @@
 """Point 15: what can have been shown behind a look."""
 
 import itertools
+import math
 import random
 import types
 import unittest
@@ -142,6 +143,21 @@ class TestBacks(unittest.TestCase):
         self.assertEqual((told[-1], max(told[:-1]) < 400), (401, True))
         self.assertEqual(Backs(EYE_OF_401, "." * 10).number, 4 ** 10)
         self.assertEqual(error_of(Backs, EYE_OF_401, "." * 11), ("TooMany", "set"))
+
+    def test_numbers_of_none_one_and_very_many_rows(self):
+        glow = eye_of((("glow",),))
+        self.assertEqual(Backs(glow, "gr").number, 1)
+        self.assertEqual(Backs(Eye.fair(), "w" * 24).number, 1)
+        self.assertEqual(Backs(eye_of((("always", "w", "r"),)), "r.w" * 8).number, 0)
+        self.assertEqual(Backs(BLUR, "r" * 24).number, 4 ** 24)
+        # Each of the 24 beats can have been lit, but no more than nine of them.
+        lost = eye_of((("lose", 9),))
+        self.assertEqual(Backs(lost, "." * 24).number, sum(math.comb(24, many) * 3 ** many for many in range(10)))
+        # Either of two beats that follow one another was dark.
+        counts = [1, 4]
+        for _ in range(23):
+            counts.append(counts[-1] + 3 * counts[-2])
+        self.assertEqual(Backs(eye_of((("miss", 1, 2),)), "." * 24).number, counts[-1])
 
     def test_numbers_count_rows_and_not_ways(self):
         # Two ways of the eye let the same row be seen.

@@ -48,6 +48,88 @@ def bound_names(tree):
             yield node.name, node
 
 
+CHANGING = {"append", "clear", "extend", "insert", "pop", "remove", "reverse", "setdefault", "update"}
+COPYING = {"list", "sorted", "tuple", "dict", "range", "len", "set", "sum"}
+
+
+def place_name(node):
+    """The name of what a name or an attribute stands for; attributes of one name count as one, whose ever they are."""
+    if isinstance(node, ast.Name):
+        return node.id
+    if isinstance(node, ast.Attribute):
+        return "." + node.attr
+    return None
+
+
+def walked_places(node):
+    """What a loop goes over: by its name, an attribute, a choice, or through `enumerate`, `zip`, `items` and the like."""
+    if place_name(node) is not None:
+        return {place_name(node)}
+    if isinstance(node, ast.IfExp):
+        return walked_places(node.body) | walked_places(node.orelse)
+    if isinstance(node, ast.BoolOp):
+        return set().union(*[walked_places(part) for part in node.values])
+    if isinstance(node, ast.Subscript):
+        return walked_places(node.value)
+    if isinstance(node, ast.Call) and isinstance(node.func, ast.Attribute) and node.func.attr in (
+            "items", "keys", "values"):
+        return walked_places(node.func.value)
+    if isinstance(node, ast.Call) and isinstance(node.func, ast.Name) and node.func.id not in COPYING:
+        return set().union(*[walked_places(part) for part in node.args])
+    return set()
+
+
+def other_names(function):
+    """Pairs of names that a function gives to one thing."""
+    found = []
+    for node in ast.walk(function):
+        if not isinstance(node, ast.Assign):
+            continue
+        for target in node.targets:
+            both = [(target, node.value)]
+            if isinstance(target, ast.Tuple) and isinstance(node.value, ast.Tuple):
+                both = list(zip(target.elts, node.value.elts))
+            for name, value in both:
+                if place_name(name) and isinstance(value, (ast.Name, ast.Attribute, ast.IfExp, ast.BoolOp)):
+                    found += [(place_name(name), other) for other in walked_places(value)]
+    return found
+
+
+def changed_places(nodes):
+    """The names of what some rows change."""
+    found = []
+    for node in nodes:
+        for part in ast.walk(node):
+            if isinstance(part, ast.Call) and isinstance(part.func, ast.Attribute) and part.func.attr in CHANGING:
+                found.append((place_name(part.func.value), part.lineno))
+            if isinstance(part, ast.Subscript) and not isinstance(part.ctx, ast.Load):
+                found.append((place_name(part.value), part.lineno))
+            if isinstance(part, ast.AugAssign):
+                found.append((place_name(part.target), part.lineno))
+    return [(name, line) for name, line in found if name is not None]
+
+
+def changed_walks(tree):
+    """The lines at which something is changed while a loop or a comprehension goes over it, under whatever name."""
+    found = []
+    for function in ast.walk(tree):
+        if not isinstance(function, ast.FunctionDef):
+            continue
+        pairs = other_names(function)
+        for node in ast.walk(function):
+            if isinstance(node, ast.For):
+                names, rows = walked_places(node.iter), node.body
+            elif isinstance(node, (ast.ListComp, ast.SetComp, ast.DictComp)):
+                names = set().union(*[walked_places(part.iter) for part in node.generators])
+                rows = [node]
+            else:
+                continue
+            for _ in pairs:
+                names = names | {name for pair in pairs for name in pair if names & set(pair)}
+            found += [line for name, line in changed_places(rows) if name in names]
+    return found
+
+
 class TestFiles(unittest.TestCase):
     def test_only_python_files_with_plain_names(self):
         self.assertTrue(FILES)
@@ -190,19 +272,23 @@ class TestCode(unittest.TestCase):
                         self.assertIn(id(node), allowed, (path, node.lineno))
 
     def test_what_is_iterated_over_is_not_modified(self):
-        changing = {"append", "clear", "extend", "insert", "pop", "remove", "reverse", "setdefault", "update"}
         for path, tree in trees():
-            for loop in ast.walk(tree):
-                if not isinstance(loop, ast.For):
-                    continue
-                names = {part.id for part in ast.walk(loop.iter) if isinstance(part, ast.Name)}
-                for node in [part for row in loop.body for part in ast.walk(row)]:
-                    if (isinstance(node, ast.Call) and isinstance(node.func, ast.Attribute)
-                            and node.func.attr in changing and isinstance(node.func.value, ast.Name)):
-                        self.assertNotIn(node.func.value.id, names, (path, node.lineno))
-                    if isinstance(node, ast.Subscript) and isinstance(node.ctx, ast.Store):
-                        if isinstance(node.value, ast.Name) and not isinstance(loop.iter, ast.Call):
-                            self.assertNotIn(node.value.id, names, (path, node.lineno))
+            self.assertEqual(changed_walks(tree), [], path)
+
+    def test_what_is_iterated_over_is_found_under_its_other_names(self):
+        for rows in ("for x in xs:\n  xs.append(x)", "for x in xs:\n  xs[x] = 1", "for x in xs.items():\n  xs.pop(x)",
+                     "for n, x in enumerate(xs):\n  del xs[n]", "for x in self.xs:\n  self.xs.append(x)",
+                     "for x in xs or ys:\n  ys.append(x)", "for x in (xs if c else ys):\n  ys[x] += 1",
+                     "while c:\n  ys = {}\n  for x in xs:\n    ys[x] = 1\n  xs = ys",
+                     "xs = ys\nfor x in xs:\n  ys.append(x)", "self.xs = ys\nfor x in self.xs:\n  ys.append(x)",
+                     "a, xs = 1, ys\nfor x in xs:\n  ys.append(x)", "for x in box.xs:\n  self.xs.append(x)",
+                     "return [xs.pop() for x in xs]"):
+            tree = ast.parse("def f(self, xs, ys, c):\n  " + rows.replace("\n", "\n  "))
+            self.assertTrue(changed_walks(tree), rows)
+        for rows in ("for x in list(xs):\n  xs.append(x)", "for x in sorted(xs):\n  xs[x] = 1", "for x in xs:\n  ys.append(x)",
+                     "ys = list(xs)\nfor x in xs:\n  ys.append(x)", "for x in xs[0]:\n  ys[x].append(x)"):
+            tree = ast.parse("def f(self, xs, ys, c):\n  " + rows.replace("\n", "\n  "))
+            self.assertFalse(changed_walks(tree), rows)
 
     def test_builtins_and_their_names(self):
         for path, tree in trees():
