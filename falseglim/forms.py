@@ -8,6 +8,16 @@ def is_integer(thing):
     return isinstance(thing, int) and not isinstance(thing, bool)
 
 
+def is_from(thing, low, high):
+    """Whether a thing is an integer within bounds."""
+    return is_integer(thing) and low <= thing <= high
+
+
+def is_natural(thing):
+    """Whether a thing is an integer from 0."""
+    return is_integer(thing) and thing >= 0
+
+
 def is_tuple(thing):
     """Whether a thing is a tuple, or a list in the place of one."""
     return isinstance(thing, (list, tuple))

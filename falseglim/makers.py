@@ -25,14 +25,18 @@ def places_come_to(firsts, follow):
     return sorted(found)
 
 
-def made_world(firsts, follow, look):
-    """The world of all places come to; `follow` tells where a place leads, `look` its sign and its mark."""
-    places = places_come_to(firsts, follow)
+def world_of_places(places, begins, follow, look):
+    """The world of some places, ascending; `follow` tells where a place leads, `look` its sign and its mark."""
     numbers = {place: number for number, place in enumerate(places)}
     shows = "".join([look(place)[0] for place in places])
-    goes = [sorted([numbers[later] for later in follow(place)]) for place in places]
+    goes = [sorted({numbers[later] for later in follow(place)}) for place in places]
     marks = [look(place)[1] for place in places]
-    return World(shows, goes, sorted([numbers[place] for place in firsts]), marks)
+    return World(shows, goes, sorted({numbers[place] for place in begins}), marks)
+
+
+def made_world(firsts, follow, look):
+    """The world of all places that are come to from the first ones, which begins in these."""
+    return world_of_places(places_come_to(firsts, follow), firsts, follow, look)
 
 
 def combined(choices):

@@ -11,12 +11,16 @@ def marks_among(world, standings):
     return tuple(sorted({world.marks[state] for state, _ in standings}))
 
 
-def sure_mark(world, standings):
-    """The mark of which a mind with this knowledge is sure, or None."""
-    marks = marks_among(world, standings)
+def only_mark(marks):
+    """The mark of which a mind is sure that holds some marks possible, or None."""
     if len(marks) != 1 or marks[0] == "":
         return None
     return marks[0]
+
+
+def sure_mark(world, standings):
+    """The mark of which a mind with this knowledge is sure, or None."""
+    return only_mark(marks_among(world, standings))
 
 
 class Mind:

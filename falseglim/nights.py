@@ -2,12 +2,7 @@
 
 from falseglim.errors import NoPair
 from falseglim.forms import ascending_pairs, is_tuple, pair_of_integers
-from falseglim.minds import sure_mark
-from falseglim.ordering import ordered
-from falseglim.sights import Sight
-from falseglim.signs import SIGNS
-
-MOST_PAIRS = 1500
+from falseglim.nightbeats import NightGraph
 
 
 def night_pair(thing):
@@ -27,25 +22,24 @@ class Nights:
         self.mind = mind
         self.world = world
         self.eye = eye
-        self._truth = Sight(world, eye)
-        self._behind = {}
-        self._looks = self._find_looks()
-        self._misled = self._find_misled()
+        self._graph = NightGraph(mind, world, eye)
+        self._numbers = {pair: number for number, pair in enumerate(self._graph.pairs)}
+        self._misled = tuple([self._graph.pairs[number] for number in self._graph.misled])
 
     def __len__(self):
-        return len(self._looks)
+        return len(self._numbers)
 
     def __iter__(self):
-        return iter(self._looks)
+        return iter(self._numbers)
 
     def __contains__(self, pair):
-        return night_pair(pair) in self._looks
+        return night_pair(pair) in self._numbers
 
     def __getitem__(self, pair):
         checked = night_pair(pair)
-        if checked not in self._looks:
+        if checked not in self._numbers:
             raise NoPair(pair)
-        return self._looks[checked]
+        return self._graph.looks[self._numbers[checked]]
 
     @property
     def misled_pairs(self):
@@ -55,35 +49,7 @@ class Nights:
     def behind(self, pair):
         """The pairs to which true beats lead, each with the sign by which they do, ascending."""
         checked = night_pair(pair)
-        if checked not in self._looks:
+        if checked not in self._numbers:
             raise NoPair(pair)
-        return tuple([(letters[0], later) for letters, later in self._true_beats(checked)])
-
-    def _find_looks(self):
-        firsts = [(standing, self.mind.opening) for standing in self._truth.opening]
-        found = ordered(firsts, ("",), lambda pair: self._true_beats(pair), MOST_PAIRS, "night")
-        return {pair: rows[0] for pair, rows in found.items()}
-
-    def _true_beats(self, pair):
-        standing, knowledge = pair
-        led = []
-        for sign in SIGNS:
-            later = self._truth.onward((standing,), sign)
-            if later:
-                known = self._knowledge_behind(knowledge, sign)
-                led.extend([((sign,), (further, known)) for further in later])
-        return led
-
-    def _knowledge_behind(self, knowledge, sign):
-        # Many true standings share one knowledge: what it leads to is found once.
-        if (knowledge, sign) not in self._behind:
-            self._behind[(knowledge, sign)] = self.mind.sight.onward(knowledge, sign)
-        return self._behind[(knowledge, sign)]
-
-    def _find_misled(self):
-        sure = {}
-        for _, knowledge in self._looks:
-            if knowledge not in sure:
-                sure[knowledge] = sure_mark(self.mind.world, knowledge)
-        return tuple([pair for pair in self._looks
-                      if sure[pair[1]] is not None and sure[pair[1]] != self.world.marks[pair[0][0]]])
+        led = self._graph.leads[self._numbers[checked]]
+        return tuple([(letters[0], self._graph.pairs[later]) for letters, later in led])

@@ -35,6 +35,28 @@ def is_mark(thing):
     return all([char in MARK_LETTERS for char in thing])
 
 
+def is_name(thing):
+    """Whether a thing is a mark that is not empty."""
+    return is_mark(thing) and thing != ""
+
+
+def is_glass(thing):
+    """Whether a thing is a glass."""
+    return isinstance(thing, str) and len(thing) == len(SIGNS) and wrong_sign(thing) is None
+
+
+def is_round(thing):
+    """Whether a thing is a round."""
+    return isinstance(thing, str) and 1 <= len(thing) <= MOST_BEATS and wrong_sign(thing) is None
+
+
+def are_signs(thing):
+    """Whether a thing is a string of at least one sign, all of them different and in ascending order."""
+    if not isinstance(thing, str) or thing == "" or wrong_sign(thing) is not None:
+        return False
+    return all([thing[at] < thing[at + 1] for at in range(len(thing) - 1)])
+
+
 def check_sign(sign):
     """Refuses what is no sign."""
     if not is_sign(sign):
@@ -61,7 +83,7 @@ def check_round(row):
 
 def check_glass(glass):
     """Refuses what is no glass."""
-    if not isinstance(glass, str) or len(glass) != len(SIGNS) or wrong_sign(glass) is not None:
+    if not is_glass(glass):
         raise BadGlass(glass)
 
 

@@ -1,15 +1,15 @@
 """Weathers: what can come between a light and who looks at it."""
 
-from falseglim.errors import BadLine, BadWeather
+from falseglim.errors import BadWeather
 from falseglim.eyes import Eye
-from falseglim.forms import is_integer, is_tuple
+from falseglim.forms import is_from, is_tuple
 from falseglim.signs import DARK, SIGNS, is_lit, is_sign
-from falseglim.wordlines import check_lines, read_words, words_of
+from falseglim.wordlines import read_tuples, write_tuples
 
 MOST_WEATHERS = 6
 WEATHER_WORDS = {
-    "lose": ("weather",),
-    "miss": ("weather", "weather"),
+    "lose": ("small",),
+    "miss": ("small", "small"),
     "take": ("lit", "sign"),
     "always": ("lit", "sign"),
     "glow": (),
@@ -78,11 +78,6 @@ ENTRIES = {
 }
 
 
-def is_from(thing, low, high):
-    """Whether a thing is an integer within bounds."""
-    return is_integer(thing) and low <= thing <= high
-
-
 def is_weather(thing):
     """Whether a thing is a weather."""
     if not is_tuple(thing) or len(thing) == 0 or not isinstance(thing[0], str) or thing[0] not in WEATHER_WORDS:
@@ -127,16 +122,9 @@ def eye_of(weathers):
 
 def write_weathers(weathers):
     """The lines of some weathers."""
-    return tuple([" ".join([str(word) for word in weather]) for weather in checked_weathers(weathers)])
+    return write_tuples(checked_weathers(weathers))
 
 
 def read_weathers(lines):
     """The weathers that lines tell."""
-    check_lines(lines)
-    found = []
-    for line in range(len(lines)):
-        words = words_of(lines, line)
-        if words[0] not in WEATHER_WORDS:
-            raise BadLine(line, 0)
-        found.append(tuple([words[0]] + read_words(words, line, WEATHER_WORDS[words[0]])))
-    return checked_weathers(found)
+    return checked_weathers(read_tuples(lines, dict(WEATHER_WORDS)))

@@ -1,12 +1,13 @@
 """How lines of words are read and written."""
 
-from falseglim.errors import BadLine
+from falseglim.errors import BadLine, BadText, TooLong
 from falseglim.forms import DIGITS, is_tuple
-from falseglim.signs import is_lit, is_mark, is_sign
+from falseglim.rhythmtext import read_round
+from falseglim.signs import is_glass, is_lit, is_mark, is_sign
 
 EMPTY_MARK = "-"
 # The bounds of the integers, by what they are the numbers of.
-BOUNDS = {"world state": (0, 95), "eye state": (0, 29), "weather": (1, 9)}
+BOUNDS = {"world state": (0, 95), "eye state": (0, 29), "small": (1, 9)}
 
 
 def integer_of(word, low, high):
@@ -33,12 +34,16 @@ def word_of_mark(mark):
 
 
 def value_of(word, kind):
-    """What a word of a kind tells, or None if it is none of this kind."""
+    """What a word of a kind tells, or None if it is none of this kind; a rhythm text can be refused, too."""
     if kind in BOUNDS:
         low, high = BOUNDS[kind]
         return integer_of(word, low, high)
     if kind == "mark":
         return mark_of_word(word)
+    if kind == "round":
+        return read_round(word)
+    if kind == "glass":
+        return word if is_glass(word) else None
     if kind == "lit":
         return word if is_lit(word) else None
     return word if is_sign(word) else None
@@ -57,6 +62,17 @@ def words_of(lines, line):
     return lines[line].split(" ")
 
 
+def told_word(words, line, at, kind):
+    """What the word of a line with an index tells, which must be one of a kind."""
+    try:
+        value = value_of(words[at], kind)
+    except (BadText, TooLong) as error:
+        raise BadLine(line, at) from error
+    if value is None:
+        raise BadLine(line, at)
+    return value
+
+
 def read_words(words, line, kinds, star=None):
     """What the words of a line behind its first one tell: one of each kind, then any number of the kind `star`."""
     told = []
@@ -64,8 +80,22 @@ def read_words(words, line, kinds, star=None):
         kind = kinds[at - 1] if at <= len(kinds) else star
         if at >= len(words) or kind is None:
             raise BadLine(line, at)
-        value = value_of(words[at], kind)
-        if value is None:
-            raise BadLine(line, at)
-        told.append(value)
+        told.append(told_word(words, line, at, kind))
     return told
+
+
+def read_tuples(lines, kinds):
+    """What lines tell that have a first word and words of the kinds that are told for it: a tuple for each line."""
+    check_lines(lines)
+    found = []
+    for line in range(len(lines)):
+        words = words_of(lines, line)
+        if words[0] not in kinds:
+            raise BadLine(line, 0)
+        found.append(tuple([words[0]] + read_words(words, line, kinds[words[0]])))
+    return tuple(found)
+
+
+def write_tuples(things):
+    """The lines of tuples of words and numbers."""
+    return tuple([" ".join([str(word) for word in thing]) for thing in things])

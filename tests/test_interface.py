@@ -15,7 +15,14 @@ FUNCTIONS = {
     "weathers": ("is_weather(thing)", "eye_of(weathers)", "write_weathers(weathers)", "read_weathers(lines)"),
     "within": ("judge_within(first, second, table)", "let_the_same(first, second)"),
     "leaneye": ("classes(eye)", "lean_eye(eye)"),
+    "leanweathers": ("needless_weathers(weathers)", "lean_weathers(weathers)", "exchangeable(weathers)"),
+    "hindsight": ("judge_hindsight(world, eye, table)",),
+    "bears": ("bears(world, beats, delay)",),
+    "ways": ("is_way(thing)", "failing(world, *ways, mark=None)", "write_ways(ways)", "read_ways(lines)"),
+    "heeding": ("judge_heeding(mind, world, eye, marks, table)",),
+    "trust": ("judge_trust(mind, world, eye, table)",),
 }
+VERDICT = ("__bool__(self)", "__len__(self)", "__iter__(self)")
 CLASSES = {
     "worlds.World": ("__init__(self, shows, goes, begins, marks)", "__len__(self)", "__getitem__(self, state)",
                      "__iter__(self)", "__eq__(self, other)", "ends(self, row)"),
@@ -28,8 +35,14 @@ CLASSES = {
                    "marks_of(self, knowledge)", "sure_of(self, knowledge)", "__call__(self, look)"),
     "nights.Nights": ("__init__(self, mind, world, eye)", "__len__(self)", "__iter__(self)",
                       "__contains__(self, pair)", "__getitem__(self, pair)", "behind(self, pair)"),
-    "within.Within": ("__init__(self, first, second)", "__bool__(self)", "__len__(self)", "__iter__(self)"),
+    "within.Within": ("__init__(self, first, second)",) + VERDICT,
     "backs.Backs": ("__init__(self, eye, look)", "__contains__(self, row)", "each_row(self)"),
+    "hindsight.Hindsight": ("__init__(self, world, eye)",) + VERDICT,
+    "outlooks.Outlook": ("__init__(self, mind)", "__len__(self)", "__iter__(self)", "__contains__(self, knowledge)",
+                         "__getitem__(self, knowledge)", "sure_look(self, mark)"),
+    "heeding.Heeding": ("__init__(self, mind, world, eye, marks)",) + VERDICT,
+    "borne.BorneLots": ("__init__(self, mind, worlds, eye, menu)", "spoiler(self, lot)"),
+    "trust.Trust": ("__init__(self, mind, world, eye)",) + VERDICT,
 }
 PROPERTIES = {
     "worlds.World": ("reached", "is_steady"),
@@ -37,6 +50,7 @@ PROPERTIES = {
     "sights.Sight": ("opening",),
     "minds.Mind": ("opening",),
     "nights.Nights": ("misled_pairs",),
+    "outlooks.Outlook": ("sure_marks",),
 }
 
 
