@@ -3,11 +3,11 @@
 from falseglim.errors import BadLine, BadText, TooLong
 from falseglim.forms import DIGITS, is_tuple
 from falseglim.rhythmtext import read_round
-from falseglim.signs import is_glass, is_lit, is_mark, is_sign
+from falseglim.signs import are_signs, is_glass, is_lit, is_mark, is_name, is_sign
 
 EMPTY_MARK = "-"
 # The bounds of the integers, by what they are the numbers of.
-BOUNDS = {"world state": (0, 95), "eye state": (0, 29), "small": (1, 9)}
+BOUNDS = {"world state": (0, 95), "eye state": (0, 29), "small": (1, 9), "line": (0, 19)}
 
 
 def integer_of(word, low, high):
@@ -40,6 +40,10 @@ def value_of(word, kind):
         return integer_of(word, low, high)
     if kind == "mark":
         return mark_of_word(word)
+    if kind == "name":
+        return word if is_name(word) else None
+    if kind == "signs":
+        return word if are_signs(word) else None
     if kind == "round":
         return read_round(word)
     if kind == "glass":

@@ -21,6 +21,13 @@ FUNCTIONS = {
     "ways": ("is_way(thing)", "failing(world, *ways, mark=None)", "write_ways(ways)", "read_ways(lines)"),
     "heeding": ("judge_heeding(mind, world, eye, marks, table)",),
     "trust": ("judge_trust(mind, world, eye, table)",),
+    "patience": ("judge_patience(mind, world, eye, patience, table)",),
+    "worldpairs": ("judge_worlds(first, second, table)",),
+    "watch": ("rehearsed(watch, deeds)", "foreseen(watch, *looks)"),
+    "orders": ("write_orders(orders)", "read_orders(lines)"),
+    "readers": ("reader_of(orders)", "reader_of_mind(mind)"),
+    "readerpairs": ("judge_readers(first, second, table)", "least_reader(reader)"),
+    "rightreaders": ("judge_right(reader, world, eye, table)",),
 }
 VERDICT = ("__bool__(self)", "__len__(self)", "__iter__(self)")
 CLASSES = {
@@ -43,6 +50,18 @@ CLASSES = {
     "heeding.Heeding": ("__init__(self, mind, world, eye, marks)",) + VERDICT,
     "borne.BorneLots": ("__init__(self, mind, worlds, eye, menu)", "spoiler(self, lot)"),
     "trust.Trust": ("__init__(self, mind, world, eye)",) + VERDICT,
+    "patience.Patience": ("__init__(self, mind, world, eye)",) + VERDICT,
+    "worldpairs.WorldWithin": ("__init__(self, first, second)",) + VERDICT,
+    "cautions.Cautions": ("__init__(self, mind, world, eye, menu)", "spoiler(self, lot)"),
+    "watch.Watch": ("__init__(self, mind)", "see(self, sign)", "look_anew(self, look)", "says(self, patience=0)",
+                    "copy(self)", "__eq__(self, other)"),
+    "watch.Ahead": ("__init__(self, watch)", "__enter__(self)", "__exit__(self, kind, value, trace)"),
+    "orders.Orders": ("__init__(self, lines)", "__len__(self)", "__getitem__(self, number)", "__iter__(self)",
+                      "__eq__(self, other)", "said(self, look)"),
+    "readers.Reader": ("__init__(self, rows)", "__len__(self)", "__iter__(self)", "__eq__(self, other)",
+                       "__call__(self, look)"),
+    "readerpairs.ReaderPair": ("__init__(self, first, second)",) + VERDICT,
+    "rightreaders.RightReader": ("__init__(self, reader, world, eye)",) + VERDICT,
 }
 PROPERTIES = {
     "worlds.World": ("reached", "is_steady"),
@@ -51,6 +70,7 @@ PROPERTIES = {
     "minds.Mind": ("opening",),
     "nights.Nights": ("misled_pairs",),
     "outlooks.Outlook": ("sure_marks",),
+    "watch.Watch": ("seen", "held"),
 }
 
 
