@@ -17,9 +17,9 @@ def checked_marks(marks):
     return tuple(marks)
 
 
-def is_unheeded(marks, truth, held):
-    """Whether the true mark is among some marks, and some that a mind holds possible are not."""
-    return truth in marks and not all([mark in marks for mark in held])
+def is_unheeded(nights, marks, place):
+    """Whether the true mark is among some marks, and some that the mind holds possible are not."""
+    return nights.true_mark(place) in marks and not all([mark in marks for mark in nights.marks_at(place)])
 
 
 class Heeding:
@@ -31,9 +31,9 @@ class Heeding:
         self.world = world
         self.eye = eye
         graph = NightGraph(mind, world, eye)
-        unheeded = {number: True for number in graph.leads
-                    if is_unheeded(self.marks, graph.truths[number], graph.marks[number])}
-        leads = leads_among(graph.leads, unheeded)
+        unheeded = {number: True for number, place in enumerate(graph.places)
+                    if is_unheeded(graph.nights, self.marks, place)}
+        leads = leads_among(graph.all_leads(), unheeded)
         circles = looped(leads)
         self.breach = breach_of(graph, leads, min(list(circles))) if circles else None
         self.table = None if circles else table_of(graph, leads)
@@ -76,15 +76,12 @@ def judge_heeding(mind, world, eye, marks, table):
     rows = [heeding_row(nights, thing) for thing in table]
     told = first_told(rows)
 
-    def is_open(place):
-        return is_unheeded(kept, nights.true_mark(place), nights.marks_at(place))
-
     def is_right(place, rank):
         laters = [later for _, later in nights.true_beats(place)]
         if not all([later in told for later in laters]):
             return False
-        if not is_open(place):
+        if not is_unheeded(nights, kept, place):
             return True
-        return rank >= 1 and all([told[later] < rank for later in laters if is_open(later)])
+        return rank >= 1 and all([told[later] < rank for later in laters if is_unheeded(nights, kept, later)])
 
     return first_wrong(nights.firsts, told, rows, is_right)

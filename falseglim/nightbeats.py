@@ -55,16 +55,19 @@ class NightBeats:
         sure = self.sure_at(place)
         return sure is not None and sure != self.true_mark(place)
 
-    def true_beats(self, place):
-        """Where true beats lead: pairs of a tuple with the sign seen and a place."""
+    def led_sets(self, place):
+        """Where true beats lead: triples of the sign seen, the standings behind it and the number of the knowledge."""
         standing, number = place
-        led = []
+        found = []
         for sign in SIGNS:
             later = self._standings_behind(standing, sign)
             if later:
-                known = self._number_behind(number, sign)
-                led.extend([((sign,), (further, known)) for further in later])
-        return led
+                found.append((sign, later, self._number_behind(number, sign)))
+        return found
+
+    def true_beats(self, place):
+        """Where true beats lead: pairs of a tuple with the sign seen and a place."""
+        return [((sign,), (later, number)) for sign, standings, number in self.led_sets(place) for later in standings]
 
     def _number_of(self, knowledge):
         if knowledge not in self._numbers:
@@ -87,8 +90,20 @@ class NightBeats:
 
 def places_in_order(nights):
     """A dict from all places that are come to, in order, to the least looks that lead to them."""
+    passed = {}
+
+    def follow(place):
+        led = []
+        for one in nights.led_sets(place):
+            # A place that goes ahead in the order has led there by this sign: no look from here on is less.
+            if one not in passed:
+                passed[one] = True
+                sign, standings, number = one
+                led.extend([((sign,), (later, number)) for later in standings])
+        return led
+
     # Places with one look have one knowledge: so they are in the order of the pairs that they tell.
-    found = ordered(nights.firsts, ("",), lambda place: nights.true_beats(place), MOST_PAIRS, "night")
+    found = ordered(nights.firsts, ("",), follow, MOST_PAIRS, "night")
     return {place: rows[0] for place, rows in found.items()}
 
 
@@ -96,18 +111,19 @@ class NightGraph:
     """All pairs of a true standing and a knowledge that are come to, told by their numbers in order."""
 
     def __init__(self, mind, world, eye):
-        nights = NightBeats(mind, world, eye)
-        found = places_in_order(nights)
-        numbers = {place: number for number, place in enumerate(found)}
-        self.pairs = tuple([nights.pair_at(place) for place in found])
+        self.nights = NightBeats(mind, world, eye)
+        found = places_in_order(self.nights)
+        self.places = tuple(found)
         self.looks = tuple(found.values())
-        self.sure = tuple([nights.sure_at(place) for place in found])
-        self.marks = tuple([nights.marks_at(place) for place in found])
-        self.truths = tuple([nights.true_mark(place) for place in found])
-        self.misled = {numbers[place]: True for place in found if nights.is_misled(place)}
-        self.leads = {number: [(letters, numbers[later]) for letters, later in nights.true_beats(place)]
-                      for place, number in numbers.items()}
+        self.pairs = tuple([self.nights.pair_at(place) for place in found])
+        self.misled = [number for number, place in enumerate(found) if self.nights.is_misled(place)]
 
     def misled_look(self):
         """The least look behind which the mind is misled, or None."""
-        return self.looks[min(list(self.misled))] if self.misled else None
+        return self.looks[self.misled[0]] if self.misled else None
+
+    def all_leads(self):
+        """A dict from each number to where true beats lead: pairs of a tuple with the sign seen and a number."""
+        numbers = {place: number for number, place in enumerate(self.places)}
+        return {number: [(letters, numbers[later]) for letters, later in self.nights.true_beats(place)]
+                for place, number in numbers.items()}

@@ -51,5 +51,6 @@ class Nights:
         checked = night_pair(pair)
         if checked not in self._numbers:
             raise NoPair(pair)
-        led = self._graph.leads[self._numbers[checked]]
-        return tuple([(letters[0], self._graph.pairs[later]) for letters, later in led])
+        nights = self._graph.nights
+        led = nights.true_beats(self._graph.places[self._numbers[checked]])
+        return tuple([(letters[0], nights.pair_at(later)) for letters, later in led])

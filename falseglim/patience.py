@@ -15,9 +15,10 @@ def check_patience(patience):
 
 def steady_leads(graph):
     """The leads of the pairs at which the mind is sure, and only to those at which it is sure of the same mark."""
-    sure = {number: True for number, mark in enumerate(graph.sure) if mark is not None}
-    leads = leads_among(graph.leads, sure)
-    return {number: [pair for pair in leads[number] if graph.sure[pair[1]] == graph.sure[number]] for number in sure}
+    marks = [graph.nights.sure_at(place) for place in graph.places]
+    sure = {number: True for number, mark in enumerate(marks) if mark is not None}
+    leads = leads_among(graph.all_leads(), sure)
+    return {number: [pair for pair in leads[number] if marks[pair[1]] == marks[number]] for number in sure}
 
 
 class Patience:
@@ -57,7 +58,7 @@ def table_of(graph, steady, ages):
 def undoing_of(graph, steady, least):
     """The least look at whose end a mind with a patience less by one than the least is misled by saying."""
     # From the pairs that lead to misled ones all ways end: the longest of them are those of such a mind.
-    doomed = led_from(list(graph.misled), turned_leads(steady))
+    doomed = led_from(graph.misled, turned_leads(steady))
     ranks = bounded_ranks(leads_among(steady, doomed))
     level = [number for number in sorted(doomed) if ranks[number] == least - 1]
     look = graph.looks[level[0]]
@@ -73,7 +74,7 @@ def undoing_of(graph, steady, least):
 
 def breach_of(graph, steady, elders):
     """What is told of the first pair in a bad steady loop."""
-    doomed = led_from(list(graph.misled), elders)
+    doomed = led_from(graph.misled, elders)
     circles = looped(steady)
     number = min([number for number in circles if number in doomed])
     ways = least_looks(number, steady)

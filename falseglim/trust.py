@@ -29,9 +29,8 @@ class Trust:
 
 def breach_of(graph):
     """The least look behind which a mind is misled, what it is sure of then, and the least standing that is not so."""
-    number = min(list(graph.misled))
-    standing, _ = graph.pairs[number]
-    return (graph.looks[number], graph.sure[number], standing)
+    place = graph.places[graph.misled[0]]
+    return (graph.misled_look(), graph.nights.sure_at(place), place[0])
 
 
 def trust_row(nights, thing):
