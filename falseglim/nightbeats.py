@@ -28,11 +28,11 @@ class NightBeats:
 
     def place_of(self, standing, knowledge):
         """The place that two things are, or None if they are no true standing and no knowledge of the mind."""
-        true = self.truth.standing_of(standing)
+        checked = self.truth.standing_of(standing)
         known = self.mind.knowledge_of(knowledge)
-        if true is None or known is None:
+        if checked is None or known is None:
             return None
-        return (true, self._number_of(known))
+        return (checked, self._number_of(known))
 
     def pair_at(self, place):
         """The pair of a true standing and a knowledge that a place tells."""

@@ -28,7 +28,8 @@ def ordered(firsts, start, follow, most, word):
                 rows = lengthened(found[thing], letters)
                 if further not in later or rows < later[further]:
                     later[further] = rows
-        level = [thing for _, thing in sorted([(later[thing], thing) for thing in later])]
+        told = sorted([(rows, further) for further, rows in later.items()])
+        level = [further for _, further in told]
         for thing in level:
             found[thing] = later[thing]
     return found

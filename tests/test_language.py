@@ -396,6 +396,15 @@ class TestClasses(unittest.TestCase):
                     for inner in ast.walk(part):
                         self.assertNotIsInstance(inner, (ast.Return, ast.Lambda), (path, node.name))
 
+    def test_exits_only_assign_what_is_kept(self):
+        for path, node in self.classes():
+            for part in node.body:
+                if isinstance(part, ast.FunctionDef) and part.name == "__exit__":
+                    self.assertEqual([word.arg for word in part.args.args], ["self", "kind", "value", "trace"])
+                    for row in part.body:
+                        self.assertIsInstance(row, ast.Assign, (path, row.lineno))
+                        self.assertTrue(place_name(row.targets[0]) and place_name(row.value), (path, row.lineno))
+
     def test_errors_are_plain(self):
         for path, node in self.classes():
             for inner in ast.walk(node):

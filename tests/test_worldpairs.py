@@ -81,6 +81,16 @@ class TestWorldWithin(unittest.TestCase):
         # Behind a row that the other world does not show, the least of several marks.
         self.assertEqual(WorldWithin(split, World("r", [(0,)], (0,), ("",))).breach, ("w", "x"))
 
+    def test_the_least_row_is_the_shortest(self):
+        # Behind two dark beats the mark is another one; but so it is behind one white beat.
+        first = World(".w..", [(2,), (3,), (3,), (3,)], (0, 1), ("a", "a", "a", "b"))
+        second = World(".w..", [(2,), (3,), (3,), (3,)], (0, 1), ("a", "a", "a", "a"))
+        self.assertEqual(WorldWithin(first, second).breach, ("w", "b"))
+        # The same where the other world does not show the rows, and where the longer marks are the lesser ones.
+        self.assertEqual(WorldWithin(first, ring(".", "a")).breach, ("w", "b"))
+        marks = World("..w", [(1, 2), (1,), (2,)], (0,), ("", "b", "aa"))
+        self.assertEqual(WorldWithin(marks, ring(".", "")).breach, (".", "aa"))
+
     def test_against_all_rows(self):
         within, deep = 0, 0
         for seed in range(200):
