@@ -48,9 +48,12 @@ def breach_of(world, graph, number):
     first, second = graph.pairs[number]
     circles = looped(graph.leads)
     ways = least_looks(number, graph.leads)
-    nearest = [later for later in ways if later in circles and later < len(graph.pairs)][0]
+    ends = [later for later in ways if later in circles and later < len(graph.pairs)]
+    way = ways[ends[0]]
+    # Those with one least way stand in the order of the table; but the loop is that of the first one as a pair.
+    nearest = min([later for later in ends if ways[later] == way], key=lambda later: graph.pairs[later])
     marks = (world.marks[first[0]], world.marks[second[0]])
-    return (marks, graph.looks[number], ways[nearest], least_loop(nearest, graph.leads))
+    return (marks, graph.looks[number], way, least_loop(nearest, graph.leads))
 
 
 def hindsight_row(sight, thing):

@@ -112,6 +112,23 @@ class TestHindsight(unittest.TestCase):
         self.assertEqual(verdict.breach, told_hindsight(world, blind)[2])
         self.assertEqual(verdict.breach[2:], (".", ".."))
 
+    def test_the_first_pair_can_stand_later_in_the_table(self):
+        # The way r leads to (0, 0) with itself and to (1, 0) with itself; the table has the second one earlier.
+        goes = ((0,), (1,), (0, 1), (0, 1))
+        for begins in ((1, 2, 3), (0, 2, 3), (0, 1, 2, 3)):
+            world = World("wgrr", goes, begins, ("a", "a", "a", "b"))
+            self.assertEqual(Hindsight(world, Eye.fair()).breach, (("a", "b"), "", "r", "w"))
+        turned = World("gwrr", goes, (1, 2, 3), ("a", "a", "a", "b"))
+        self.assertEqual(Hindsight(turned, Eye.fair()).breach, (("a", "b"), "", "r", "g"))
+
+    def test_loops_against_a_second_reckoning(self):
+        # Among these there are some in which the first of several pairs stands later in the table.
+        for seed in (38, 336, 473, 529, 787, 1650, 2380, 2419) + tuple(range(40, 70)):
+            world = some_world(seed, 3 + seed % 4, ".wr", marks=("a", "b"))
+            eye = some_eye(seed, 1 + seed % 2, more=seed % 3) if seed % 3 else Eye.fair()
+            verdict = Hindsight(world, eye)
+            self.assertEqual((verdict.delay, verdict.table, verdict.breach), told_hindsight(world, eye), seed)
+
     def test_against_a_second_reckoning(self):
         told_back, breaches, longest = 0, 0, 0
         for seed in range(200):
