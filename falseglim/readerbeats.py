@@ -1,5 +1,6 @@
 """Where true beats lead: a true standing, and a reader that goes along."""
 
+from falseglim.forms import is_from
 from falseglim.ordering import ordered
 from falseglim.sights import Sight
 from falseglim.signs import SIGNS
@@ -16,6 +17,13 @@ class ReaderBeats:
         self.truth = Sight(world, eye)
         self.firsts = [(standing, 0) for standing in self.truth.opening]
         self._behind = {}
+
+    def place_of(self, standing, state):
+        """The place that two things are, or None if they are no true standing and no state of the reader."""
+        checked = self.truth.standing_of(standing)
+        if checked is None or not is_from(state, 0, len(self.reader.rows) - 1):
+            return None
+        return (checked, state)
 
     def word_at(self, place):
         """The word that the reader says, empty if it says none."""

@@ -1,6 +1,6 @@
 """Readers that are right for a truth."""
 
-from falseglim.forms import is_from, is_tuple
+from falseglim.forms import is_tuple
 from falseglim.judging import first_told, first_wrong
 from falseglim.readerbeats import ReaderBeats
 
@@ -39,10 +39,8 @@ def breach_of(beats, found):
 
 def right_row(beats, thing):
     """The row that a thing is: a place of which nothing is told."""
-    if not is_tuple(thing) or len(thing) != 2 or not is_from(thing[1], 0, len(beats.reader) - 1):
-        return None
-    standing = beats.truth.standing_of(thing[0])
-    return None if standing is None else ((standing, thing[1]), None)
+    place = beats.place_of(thing[0], thing[1]) if is_tuple(thing) and len(thing) == 2 else None
+    return None if place is None else (place, None)
 
 
 def judge_right(reader, world, eye, table):
