@@ -12,6 +12,11 @@ def all_lots(many):
     return sorted(found)
 
 
+def in_size_order(lots):
+    """Some lots ordered by how many things are in them, then as tuples."""
+    return [lot for _, lot in sorted([(len(lot), lot) for lot in lots])]
+
+
 def checked_lot(thing, many):
     """The lot of so many things that a thing is, as a tuple."""
     lot = ascending_integers(thing)

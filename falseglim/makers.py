@@ -1,7 +1,7 @@
 """Worlds that are put together from parts."""
 
 from falseglim.errors import BadBeats, BadPlace, BadWorlds, TooMany
-from falseglim.forms import is_integer
+from falseglim.forms import is_from
 from falseglim.signs import DARK, check_glass, check_mark, check_round, through_glass
 from falseglim.worlds import MOST_STATES, World
 
@@ -55,12 +55,18 @@ def check_worlds(worlds, most):
         raise BadWorlds(-1)
 
 
+def check_turn_beats(beats):
+    """Refuses what is no number of beats for which a world can be seen in its turn."""
+    if not is_from(beats, 1, MOST_TURN_BEATS):
+        raise BadBeats(beats)
+
+
 def ring(row, mark, at=None):
     """The world that shows a round for ever; it begins anywhere, or at one index of the round."""
     check_round(row)
     check_mark(mark)
     many = len(row)
-    if at is not None and (not is_integer(at) or not 0 <= at < many):
+    if at is not None and not is_from(at, 0, many - 1):
         raise BadPlace(at)
     goes = [((index + 1) % many,) for index in range(many)]
     begins = list(range(many)) if at is None else [at]
@@ -101,8 +107,7 @@ def over(first, second):
 def by_turns(*worlds, beats=1):
     """The world in which each of several worlds is seen for so many beats, one behind the other."""
     check_worlds(worlds, MOST_TURNS)
-    if not is_integer(beats) or not 1 <= beats <= MOST_TURN_BEATS:
-        raise BadBeats(beats)
+    check_turn_beats(beats)
     turns = len(worlds) * beats
 
     def follow(place):

@@ -7,7 +7,7 @@ from falseglim.signs import are_signs, is_glass, is_lit, is_mark, is_name, is_si
 
 EMPTY_MARK = "-"
 # The bounds of the integers, by what they are the numbers of.
-BOUNDS = {"world state": (0, 95), "eye state": (0, 29), "small": (1, 9), "line": (0, 19)}
+BOUNDS = {"world state": (0, 95), "eye state": (0, 29), "small": (1, 9), "line": (0, 19), "notice": (0, 7)}
 
 
 def integer_of(word, low, high):
@@ -34,7 +34,12 @@ def word_of_mark(mark):
 
 
 def value_of(word, kind):
-    """What a word of a kind tells, or None if it is none of this kind; a rhythm text can be refused, too."""
+    """What a word of a kind tells, or None if it is none of this kind; a rhythm text can be refused, too.
+
+    A kind can also be a dict, from the only words that can stand there to what they tell.
+    """
+    if isinstance(kind, dict):
+        return kind.get(word)
     if kind in BOUNDS:
         low, high = BOUNDS[kind]
         return integer_of(word, low, high)
