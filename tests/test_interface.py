@@ -28,6 +28,13 @@ FUNCTIONS = {
     "readers": ("reader_of(orders)", "reader_of_mind(mind)"),
     "readerpairs": ("judge_readers(first, second, table)", "least_reader(reader)"),
     "rightreaders": ("judge_right(reader, world, eye, table)",),
+    "timely": ("judge_timely(reader, world, eye, table)",),
+    "leanorders": ("needless(orders)", "lean_orders(orders)"),
+    "seas": ("write_sea(sea)", "read_sea(lines)"),
+    "sailing": ("sailed(sea, worlds, *, watch, beats=1, ask='region')",),
+    "lightlots": ("light_lots(sea, worlds, eye, beats, delay)",),
+    "lookplans": ("judge_lookplan(sea, worlds, eye, table)",),
+    "notices": ("write_notices(notices)", "read_notices(coast, lines)"),
 }
 VERDICT = ("__bool__(self)", "__len__(self)", "__iter__(self)")
 CLASSES = {
@@ -62,6 +69,15 @@ CLASSES = {
                        "__call__(self, look)"),
     "readerpairs.ReaderPair": ("__init__(self, first, second)",) + VERDICT,
     "rightreaders.RightReader": ("__init__(self, reader, world, eye)",) + VERDICT,
+    "timely.Timely": ("__init__(self, reader, world, eye)",) + VERDICT,
+    "seas.Sea": ("__init__(self, regions, ways, begins, sectors)", "__contains__(self, region)", "__len__(self)",
+                 "__iter__(self)", "__getitem__(self, at)", "__eq__(self, other)"),
+    "lookplans.LookPlan": ("__init__(self, sea, worlds, eye)", "behind(self, belief, light, sign)",
+                           "play(self, row)") + VERDICT,
+    "coasts.Coast": ("__init__(self, lights)", "__contains__(self, name)", "__getitem__(self, name)", "__len__(self)",
+                     "__iter__(self)", "__eq__(self, other)", "as_world(self)"),
+    "notices.Notices": ("__init__(self, coast, notices)", "__len__(self)", "__iter__(self)", "__eq__(self, other)",
+                        "in_force(self, lot)", "chart(self, lot)"),
 }
 PROPERTIES = {
     "worlds.World": ("reached", "is_steady"),
@@ -71,6 +87,7 @@ PROPERTIES = {
     "nights.Nights": ("misled_pairs",),
     "outlooks.Outlook": ("sure_marks",),
     "watch.Watch": ("seen", "held"),
+    "notices.Notices": ("true_coast",),
 }
 
 
@@ -107,6 +124,9 @@ class TestInterface(unittest.TestCase):
         self.assertIsInstance(own["fair"], classmethod)
         self.assertIsInstance(own["through"], classmethod)
         self.assertEqual(str(inspect.signature(module_of("eyes").Eye.through)), "(glass)")
+        coast = module_of("coasts").Coast
+        self.assertIsInstance(vars(coast)["of_texts"], classmethod)
+        self.assertEqual(str(inspect.signature(coast.of_texts)), "(*pairs)")
         self.assertTrue(inspect.isgeneratorfunction(module_of("backs").Backs.each_row))
 
 
