@@ -8,6 +8,8 @@ MARK_LETTERS = "abcdefghijklmnopqrstuvwxyz0123456789"
 MOST_SIGNS = 400
 MOST_BEATS = 24
 MOST_LETTERS = 8
+LETTERS = "abcdefghijklmnopqrstuvwxyz"
+MOST_WORD = 12
 
 
 def is_sign(thing):
@@ -48,6 +50,16 @@ def is_glass(thing):
 def is_round(thing):
     """Whether a thing is a round."""
     return isinstance(thing, str) and 1 <= len(thing) <= MOST_BEATS and wrong_sign(thing) is None
+
+
+def is_letter(thing):
+    """Whether a thing is one letter from `a` to `z`."""
+    return isinstance(thing, str) and len(thing) == 1 and thing in LETTERS
+
+
+def is_word(thing):
+    """Whether a thing is a row that can be the word of a signal."""
+    return isinstance(thing, str) and 1 <= len(thing) <= MOST_WORD and wrong_sign(thing) is None
 
 
 def are_signs(thing):

@@ -3,7 +3,7 @@
 from falseglim.errors import BadLine, BadText, TooLong
 from falseglim.forms import DIGITS, is_tuple
 from falseglim.rhythmtext import read_round
-from falseglim.signs import are_signs, is_glass, is_lit, is_mark, is_name, is_sign
+from falseglim.signs import are_signs, is_glass, is_letter, is_lit, is_mark, is_name, is_sign, is_word
 
 EMPTY_MARK = "-"
 # The bounds of the integers, by what they are the numbers of.
@@ -53,6 +53,10 @@ def value_of(word, kind):
         return read_round(word)
     if kind == "glass":
         return word if is_glass(word) else None
+    if kind == "letter":
+        return word if is_letter(word) else None
+    if kind == "word":
+        return word if is_word(word) else None
     if kind == "lit":
         return word if is_lit(word) else None
     return word if is_sign(word) else None
