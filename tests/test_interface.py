@@ -35,6 +35,11 @@ FUNCTIONS = {
     "lightlots": ("light_lots(sea, worlds, eye, beats, delay)",),
     "lookplans": ("judge_lookplan(sea, worlds, eye, table)",),
     "notices": ("write_notices(notices)", "read_notices(coast, lines)"),
+    "lighting": ("candidates(signs, most)", "apart(first, second, eye, delay)",
+                 "judge_cases(many, signs, most, eye, delay, tree)"),
+    "signals": ("talking_world(signals)", "talking_light(signals, name)", "write_signals(signals)",
+                "read_signals(lines)"),
+    "journal": ("write_journal(office)", "read_journal(lines)", "taken_up(lines)"),
 }
 VERDICT = ("__bool__(self)", "__len__(self)", "__iter__(self)")
 CLASSES = {
@@ -78,6 +83,19 @@ CLASSES = {
                      "__iter__(self)", "__eq__(self, other)", "as_world(self)"),
     "notices.Notices": ("__init__(self, coast, notices)", "__len__(self)", "__iter__(self)", "__eq__(self, other)",
                         "in_force(self, lot)", "chart(self, lot)"),
+    "ships.Ships": ("__init__(self, notices, supposed, eye)", "misled_by(self, lot)"),
+    "changing.Changing": ("__init__(self, old, new, supposed, eye, *, hands=1, lag=1, dark=True)", "__bool__(self)",
+                          "coast_of(self, mixture)", "is_calm(self, chart, mixture)", "judge_plan(self, plan)",
+                          "judge_lot(self, windows)"),
+    "lighting.Lighting": ("__init__(self, many, signs, most, eye, delay)", "__bool__(self)"),
+    "signals.Signals": ("__init__(self, plain, signals=())", "__len__(self)", "__iter__(self)", "__eq__(self, other)",
+                        "__call__(self, message)"),
+    "readings.Readings": ("__init__(self, signals, eye, look)", "__contains__(self, message)", "each_message(self)"),
+    "letlots.LetLots": ("__init__(self, signals, near, delay, mind, name, far)", "reason(self, lot)"),
+    "office.Office": ("__init__(self)", "keep_round(self, name, row)", "keep_weather(self, name, weathers)",
+                      "keep_orders(self, name, lines)", "keep_coast(self, name, lights)", "strike(self, name)",
+                      "__getitem__(self, name)", "__contains__(self, name)", "__len__(self)", "__iter__(self)",
+                      "kind_of(self, name)", "copy(self)", "__eq__(self, other)"),
 }
 PROPERTIES = {
     "worlds.World": ("reached", "is_steady"),
@@ -88,6 +106,8 @@ PROPERTIES = {
     "outlooks.Outlook": ("sure_marks",),
     "watch.Watch": ("seen", "held"),
     "notices.Notices": ("true_coast",),
+    "signals.Signals": ("pieces",),
+    "office.Office": ("deeds",),
 }
 
 
@@ -128,6 +148,7 @@ class TestInterface(unittest.TestCase):
         self.assertIsInstance(vars(coast)["of_texts"], classmethod)
         self.assertEqual(str(inspect.signature(coast.of_texts)), "(*pairs)")
         self.assertTrue(inspect.isgeneratorfunction(module_of("backs").Backs.each_row))
+        self.assertTrue(inspect.isgeneratorfunction(module_of("readings").Readings.each_message))
 
 
 if __name__ == "__main__":
