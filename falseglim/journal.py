@@ -9,16 +9,15 @@ from falseglim.weathers import WEATHER_WORDS, checked_weathers
 from falseglim.wordlines import read_words, words_of, write_tuples
 
 END = "end"
-LIGHT = "light"
 # What stands behind the first word of the first line of a deed.
 DEED_WORDS = {
-    ROUND: ("name", "round"),
-    WEATHER: ("name",),
-    ORDERS: ("name",),
-    COAST: ("name",),
-    STRIKE: ("name",),
+    "round": ("name", "round"),
+    "weather": ("name",),
+    "orders": ("name",),
+    "coast": ("name",),
+    "strike": ("name",),
 }
-LIGHT_WORDS = {LIGHT: ("name", "name")}
+LIGHT_WORDS = {"light": ("name", "name")}
 
 
 def lines_of_deed(deed):
@@ -29,7 +28,7 @@ def lines_of_deed(deed):
     thing = things[0]
     if kind == ROUND:
         return (f"{ROUND} {name} {fold_round(thing)}",)
-    parts = [(LIGHT, light, row) for light, row in thing] if kind == COAST else thing
+    parts = [("light", light, row) for light, row in thing] if kind == COAST else thing
     return (f"{kind} {name}",) + write_tuples(parts) + (END,)
 
 

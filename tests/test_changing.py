@@ -165,6 +165,12 @@ class TestChanging(unittest.TestCase):
         # Nothing was there: an elder chart without lights misleads nobody, one with a single light does.
         verdict = Changing(Coast(()), Coast((("a", "g"), ("b", "r"))), FAIR, FAIR, hands=2)
         self.assertEqual(verdict.plan, ("nn",))
+        for chart in ("oo", "xx", "ox"):
+            self.assertEqual(verdict.coast_of(chart), Coast(()))
+            for mixture in ("oo", "nn", "no", "xn"):
+                self.assertIs(verdict.is_calm(chart, mixture), True)
+        self.assertIs(verdict.is_calm("no", "nn"), False)
+        self.assertIs(verdict.is_calm("no", "oo"), True)
         verdict = Changing(Coast(()), Coast((("a", "g"), ("b", "r"))), FAIR, FAIR, hands=1)
         self.assertIsNone(verdict.plan)
 

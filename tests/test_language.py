@@ -224,6 +224,9 @@ class TestCode(unittest.TestCase):
                     self.assertEqual(len(node.targets), 1)
                     self.assertIsInstance(node.targets[0], ast.Name, (path, node.lineno))
                     self.assertFalse([part for part in ast.walk(node.value) if isinstance(part, (ast.Call, ast.ListComp))])
+                    above = [one.name for one in tree.body[:tree.body.index(node)] if isinstance(one, ast.FunctionDef)]
+                    told = [part.id for part in ast.walk(node.value) if isinstance(part, ast.Name)]
+                    self.assertFalse([name for name in told if name not in above], (path, node.lineno))
                     names.append(node.targets[0].id)
                 else:
                     self.assertIsInstance(node, (ast.ImportFrom, ast.FunctionDef, ast.ClassDef), (path, node.lineno))
