@@ -271,6 +271,23 @@ class TestErrors(unittest.TestCase):
             found.add(count > 400)
         self.assertEqual(found, {True, False})
 
+    def test_exactly_four_hundred_windows(self):
+        # In both cases with a plan and without one.
+        for many, old, new, hands, lag, plan in (
+                (400, "c gg e w..", "b r", 4, 2, ("nnn",)),
+                (400, "a g b wg c w.. d w.", "a g d .g e g", 1, 2, None),
+                (401, "a w. b w. d ww", "a w b gg f .g", 2, 1, ("onon", "onnn", "nnnn")),
+                (401, "c g d gr e wg", "c w. d g e wg f .g a r", 2, 2, None)):
+            old, new = (Coast(tuple(zip(text.split()[::2], text.split()[1::2]))) for text in (old, new))
+            windows = Told(old, new, FAIR, FAIR, hands, lag, True).all_windows()
+            self.assertEqual(len(windows), many)
+            verdict = error_of(Changing, old, new, FAIR, FAIR, hands=hands, lag=lag)
+            if many > 400:
+                self.assertEqual(verdict, ("TooMany", "window"))
+            else:
+                self.assertEqual(verdict.plan, plan)
+                self.assertEqual(verdict.lot, tuple(sorted(windows)) if plan is None else None)
+
     def test_bad_mixtures(self):
         verdict = Changing(OLD, NEW, FAIR, FAIR)
         for odd in NO_MIXTURES:
@@ -418,6 +435,14 @@ class TestJudgeLot(unittest.TestCase):
         for window in (("nx", "nx"), ("xx", "xx"), ("no", "no"), ("ox", "ox"), ("on", "no")):
             good = all(later in self.lot + (window,) for later in told.behind(window))
             self.assertEqual(self.verdict.judge_lot(self.lot + (window,)), None if good else len(self.lot), window)
+
+    def test_lights_that_are_out_and_cannot_be_put_out(self):
+        # A window can have the letter x; but without being put out no light is lit again either.
+        dark = Changing(OLD, NEW, FAIR, FAIR, dark=False)
+        self.assertIsNone(dark.judge_lot((("oo", "oo"), ("xx", "xx"), ("nx", "xx"))))
+        self.assertEqual(self.verdict.judge_lot(self.lot + (("xx", "xx"),)), None)
+        self.assertEqual(self.verdict.judge_lot((("oo", "oo"), ("xx", "xx"))), 0)
+        self.assertEqual(self.verdict.judge_lot((("xx", "xx"),) + self.lot[:7]), 0)
 
     def test_no_lot_is_closed_where_there_is_a_plan(self):
         verdict = Changing(OLD, NEW, FAIR, FAIR, hands=2)

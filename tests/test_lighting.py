@@ -3,6 +3,7 @@
 import itertools
 import unittest
 
+from falseglim.cases import CaseTrees
 from falseglim.eyes import Eye
 from falseglim.hindsight import Hindsight
 from falseglim.lighting import Lighting, apart, candidates, judge_cases
@@ -277,6 +278,29 @@ class TestLighting(unittest.TestCase):
         self.assertEqual(lit.tree, told_tree(4, pairs, [], list(range(31))))
         self.assertGreater(cases(lit.tree), 500)
         self.assertIs(judge_cases(4, ".gw", 4, eye, 60, lit.tree), True)
+
+
+class TestCases(unittest.TestCase):
+    def grown(self, pairs):
+        others = [{other: True for other in range(31) if tuple(sorted((number, other))) in pairs} for number in range(31)]
+        return error_of(CaseTrees(4, others).grown, 0, list(range(31)))
+
+    def test_the_last_tree_that_is_not_too_large(self):
+        # Three classes as before; fewer and fewer pairs are apart. (A tree always has an odd number of cases.)
+        pairs = {pair for pair in itertools.combinations(range(31), 2) if pair[0] % 3 != pair[1] % 3}
+        tree = told_tree(4, pairs, [], list(range(31)))
+        for pair in sorted(pairs):
+            if cases(tree) == 2001:
+                break
+            pairs.discard(pair)
+            tree = told_tree(4, pairs, [], list(range(31)))
+        self.assertEqual((cases(tree), self.grown(pairs)), (2001, ("TooMany", "case")))
+        for pair in sorted(pairs):
+            tree = told_tree(4, pairs - {pair}, [], list(range(31)))
+            if cases(tree) == 1999:
+                break
+        self.assertEqual(cases(tree), 1999)
+        self.assertEqual(self.grown(pairs - {pair}), tree)
 
 
 class TestJudge(unittest.TestCase):

@@ -9,7 +9,7 @@ from falseglim.eyes import Eye
 from falseglim.readings import Readings
 from falseglim.signals import Signals
 from falseglim.weathers import eye_of
-from tests.helpers import ODD, error_of, rows_to, seen_as, some_eye
+from tests.helpers import ODD, SIGNS, error_of, rows_to, seen_as, some_eye
 from tests.test_backs import BLUR, EYE_OF_400, EYE_OF_401, forgetful
 from tests.test_signals import some_signals
 
@@ -17,6 +17,14 @@ FAIR = Eye.fair()
 SOME = Signals("w..", (("b", "ww."), ("a", "w")))
 # Each sign is a piece: so all rows are messages.
 ALL = Signals(".", (("g", "g"), ("r", "r"), ("w", "w")))
+
+
+def two_chains(many):
+    """An eye that sees nothing; it holds possible each of the last beats at which white, green or, for both, red was."""
+    entries = [(0, sign, ".", 0) for sign in SIGNS]
+    entries += [(0, "w", ".", 1), (0, "r", ".", 1), (0, "g", ".", many + 1), (0, "r", ".", many + 1)]
+    entries += [(state, sign, ".", 0 if state % many == 0 else state + 1) for state in range(1, 2 * many + 1) for sign in SIGNS]
+    return Eye(entries)
 
 
 def told_messages(signals, eye, look):
@@ -190,6 +198,11 @@ class TestErrors(unittest.TestCase):
         self.assertEqual(told_sets(signals, forgetful(5), "....."), [1, 2, 4, 8, 16, 32])
         self.assertEqual(Readings(signals, forgetful(9), "." * 8).number, 4 ** 4)
         self.assertEqual(error_of(Readings, signals, forgetful(9), "." * 9), ("TooMany", "set"))
+        # All pieces begin dark: only within pieces, behind ten beats, the sets become too many.
+        signals = Signals("..", (("g", ".g"), ("r", ".r"), ("w", ".w")))
+        self.assertEqual(told_sets(signals, two_chains(10), "......"), [1, 1, 4, 4, 16, 16, 64])
+        self.assertEqual(Readings(signals, two_chains(10), "." * 9).number, 4 ** 5)
+        self.assertEqual(error_of(Readings, signals, two_chains(10), "." * 10), ("TooMany", "set"))
         # Words that are never read to their ends lead the eye on as long as they can be seen.
         self.assertEqual(Readings(signals, forgetful(9), "." * 8 + "w").number, 0)
 
